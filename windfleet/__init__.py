@@ -1,0 +1,1 @@
+"""Windfleet: small flyers under winds that are told only as boxes."""

@@ -1,0 +1,60 @@
+"""Tasks, their steps, and what a flyer bears at each."""
+
+from windfleet.kinds import is_span, is_tuple_of, is_whole_from
+from windfleet.lands import box_has, is_box
+
+HEAVIEST = 9
+MOST_OVER = 9
+
+
+def is_task(land, thing):
+    """Whether it is a task of the land."""
+    if not isinstance(thing, tuple) or len(thing) < 3 or not is_span(thing[-2], thing[-1], land.day):
+        return False
+    if thing[0] == "look":
+        return is_tuple_of(thing, 4) and is_box(land, thing[1])
+    if thing[0] == "bring":
+        return is_tuple_of(thing, 6) and is_bring(land, thing)
+    if thing[0] == "over":
+        return is_tuple_of(thing, 5) and is_box(land, thing[1]) and is_whole_from(thing[2], 1, MOST_OVER)
+    return False
+
+
+def is_bring(land, thing):
+    """Whether the parts behind the word `bring`, but for the hours, are two boxes and a weight."""
+    return is_box(land, thing[1]) and is_box(land, thing[2]) and is_whole_from(thing[3], 0, HEAVIEST)
+
+
+def last_step(task):
+    """The step at which the task is done; of None 0."""
+    if task is None:
+        return 0
+    if task[0] == "look":
+        return 1
+    if task[0] == "bring":
+        return 2
+    return task[2]
+
+
+def step_by(task, step, x, y, beat):
+    """What the step becomes of a flyer that is at the square at the beat."""
+    if step >= last_step(task):
+        return step
+    if is_served(task, step, x, y, beat):
+        return step + 1
+    if task[0] == "over":
+        return 0
+    return step
+
+
+def is_served(task, step, x, y, beat):
+    """Whether the square and the beat are what the task, not done yet, waits for at the step."""
+    box = task[2] if task[0] == "bring" and step == 1 else task[1]
+    return box_has(box, x, y) and task[-2] <= beat <= task[-1]
+
+
+def load_of(task, step):
+    """What the flyer bears at the step."""
+    if task is not None and task[0] == "bring" and step == 1:
+        return task[3]
+    return 0
