@@ -2,6 +2,9 @@
 
 import copy
 
+from windfleet.lands import Land
+from windfleet.tasks import last_step
+
 # Things of every kind that "of anything" names, none of them a land's or a flyer's.
 ANYTHING = (
     None, True, False, 0, 1, -1, 10 ** 39, -(10 ** 39), "", "a", "look", "land 3 3 12\npad 0 0 1 1 2", "x" * 4000,
@@ -88,3 +91,125 @@ def told_so(test, ask, wanted, told):
     """Checks a telling down to its kinds: True is not 1 here, a list no tuple."""
     test.assertEqual(wanted, told, ask)
     test.assertEqual(repr(wanted), repr(told), ask)
+
+
+def hurt_again(land, x, y, beat, ceiling):
+    """By which word a square hurts, told square by square."""
+    if x not in range(land.wide) or y not in range(land.high):
+        return "out"
+    if land.heights is not None and land.heights[y][x] > ceiling:
+        return "high"
+    around = [(x + dx, y + dy) for dx in (-1, 0, 1) for dy in (-1, 0, 1)]
+    if (x, y) in squares_at(land.barred, beat):
+        return "barred"
+    if any(square in squares_at(land.people, beat) for square in around):
+        return "people"
+    return None
+
+
+def squares_of(box):
+    return {(x, y) for x in range(box[0], box[2] + 1) for y in range(box[1], box[3] + 1)}
+
+
+def squares_at(rooms, beat):
+    return {square for room in rooms if beat in range(room[4], room[5] + 1) for square in squares_of(room)}
+
+
+def winds_again(winds, x, y, beat):
+    """The winds that may be somewhere, told square by square."""
+    let = [{(0, 0)}]
+    for room, (lx, hx, ly, hy) in reversed(winds):
+        if (x, y) in squares_at((room,), beat):
+            let.append(squares_of((lx, ly, hx, hy)))
+    return sorted(let[-1])
+
+
+def step_again(task, step, square, beat):
+    """What a step becomes, told sort by sort."""
+    if task is None:
+        return 0
+    sort, *parts, first, last = task
+    hours = range(first, last + 1)
+    if sort == "look":
+        return 1 if step == 1 or (beat in hours and square in squares_of(parts[0])) else 0
+    if sort == "bring":
+        return step + 1 if step < 2 and beat in hours and square in squares_of(parts[step]) else step
+    if step == parts[1]:
+        return step
+    return step + 1 if beat in hours and square in squares_of(parts[0]) else 0
+
+
+def beat_again(land, flight, row, beat, state, wind, owing=False):
+    """A beat, told a second time; where owing, charge below 0 breaks nothing."""
+    (reach, ceiling, full, gain), start, way, task, home = flight
+    x, y, step, charge = state
+    pads = [number for number, pad in enumerate(land.pads) if (x, y) in squares_of(pad)]
+    if row == ("stand",) and not pads:
+        return None, "nopad"
+    if row == ("stand",) or (row == ("home",) and home in pads):
+        charge = min(full, charge + gain)
+    else:
+        if row[0] == "home":
+            x1, y1, x2, y2, many = land.pads[home]
+            row = ("aim", (x1 + x2) // 2, (y1 + y2) // 2)
+        wishes = row[1:] if row[0] == "go" else (row[1] - x, row[2] - y)
+        wishes = [sorted((-reach, wish, reach))[1] for wish in wishes]
+        charge -= 1 + sum(abs(wish) for wish in wishes)
+        charge -= sum(1 for wish, blown in zip(wishes, wind) if (wish > 0 > blown) or (wish < 0 < blown))
+        charge -= task[3] if task is not None and task[0] == "bring" and step == 1 else 0
+        if charge < 0 and not owing:
+            return None, "empty"
+        x, y = x + wishes[0] + wind[0], y + wishes[1] + wind[1]
+    word = hurt_again(land, x, y, beat + 1, ceiling)
+    if word is not None:
+        return None, word
+    return (x, y, step_again(task, step, (x, y), beat + 1), charge), None
+
+
+def a_box(rand, wide, high):
+    x1, x2 = sorted((rand.randrange(wide), rand.randrange(wide)))
+    y1, y2 = sorted((rand.randrange(high), rand.randrange(high)))
+    return x1, y1, x2, y2
+
+
+def a_room(rand, wide, high, day):
+    return (*a_box(rand, wide, high), *sorted((rand.randrange(day + 1), rand.randrange(day + 1))))
+
+
+def a_row(rand):
+    sort = rand.choice(("go", "go", "aim", "stand", "home"))
+    if sort == "go":
+        return sort, rand.randint(-2, 2), rand.randint(-2, 2)
+    if sort == "aim":
+        return sort, rand.randrange(6), rand.randrange(6)
+    return (sort,)
+
+
+def a_task(rand, wide, high, day):
+    hours = sorted((rand.randrange(day + 1), rand.randrange(day + 1)))
+    box = a_box(rand, wide, high)
+    return rand.choice((
+        None, ("look", box, *hours), ("bring", box, a_box(rand, wide, high), rand.randrange(5), *hours),
+        ("over", box, rand.randint(1, 3), *hours),
+    ))
+
+
+def a_case(rand, day=4):
+    """A small land, winds of it, and a flight of it, of a chance that is the same every time."""
+    wide, high = rand.randint(1, 5), rand.randint(1, 5)
+    heights = rand.choice((None, tuple(tuple(rand.choice((0, 0, 0, 4)) for x in range(wide)) for y in range(high))))
+    barred = tuple(a_room(rand, wide, high, day) for k in range(rand.choice((0, 0, 1))))
+    people = tuple(a_room(rand, wide, high, day) for k in range(rand.choice((0, 0, 0, 1))))
+    pads = ((*a_box(rand, wide, high), 1),)
+    if rand.random() < 0.7 and wide > 1 and high > 1:
+        pads = ((0, 0, 0, high - 1, 2), (wide - 1, 0, wide - 1, 0, 1))
+    land = Land(wide, high, day=day, heights=heights, barred=barred, people=people, pads=pads)
+    bounds = ((0, 1, 0, 0), (-1, 0, 0, 1), (0, 0, 0, 0), (1, 1, -1, -1), (-1, 1, 0, 0))
+    winds = tuple((a_room(rand, wide, high, day), rand.choice(bounds)) for k in range(rand.randrange(4)))
+    task = a_task(rand, wide, high, day)
+    full = rand.randint(1, 20)
+    step = rand.randint(0, last_step(task))
+    state = (rand.randrange(wide), rand.randrange(high), step, rand.randint(0, full))
+    way = tuple(a_row(rand) for k in range(rand.randrange(day + 2)))
+    flyer = (rand.randrange(3), rand.randint(2, 5), full, rand.randint(1, 9))
+    return land, winds, (flyer, state, way, task, rand.randrange(len(pads)))

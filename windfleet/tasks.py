@@ -9,20 +9,15 @@ MOST_OVER = 9
 
 def is_task(land, thing):
     """Whether it is a task of the land."""
-    if not isinstance(thing, tuple) or len(thing) < 3 or not is_span(thing[-2], thing[-1], land.day):
-        return False
-    if thing[0] == "look":
-        return is_tuple_of(thing, 4) and is_box(land, thing[1])
-    if thing[0] == "bring":
-        return is_tuple_of(thing, 6) and is_bring(land, thing)
-    if thing[0] == "over":
-        return is_tuple_of(thing, 5) and is_box(land, thing[1]) and is_whole_from(thing[2], 1, MOST_OVER)
+    if is_tuple_of(thing, 4) and thing[0] == "look":
+        return is_box(land, thing[1]) and is_span(thing[2], thing[3], land.day)
+    if is_tuple_of(thing, 6) and thing[0] == "bring":
+        boxes = is_box(land, thing[1]) and is_box(land, thing[2])
+        return boxes and is_whole_from(thing[3], 0, HEAVIEST) and is_span(thing[4], thing[5], land.day)
+    if is_tuple_of(thing, 5) and thing[0] == "over":
+        many = is_whole_from(thing[2], 1, MOST_OVER)
+        return many and is_box(land, thing[1]) and is_span(thing[3], thing[4], land.day)
     return False
-
-
-def is_bring(land, thing):
-    """Whether the parts behind the word `bring`, but for the hours, are two boxes and a weight."""
-    return is_box(land, thing[1]) and is_box(land, thing[2]) and is_whole_from(thing[3], 0, HEAVIEST)
 
 
 def last_step(task):
