@@ -213,3 +213,138 @@ def a_case(rand, day=4):
     way = tuple(a_row(rand) for k in range(rand.randrange(day + 2)))
     flyer = (rand.randrange(3), rand.randint(2, 5), full, rand.randint(1, 9))
     return land, winds, (flyer, state, way, task, rand.randrange(len(pads)))
+
+
+def a_fair_land(rand, day):
+    """A land of few hurts, with two pads to come home to."""
+    wide, high = rand.randint(4, 6), rand.randint(2, 4)
+    barred = tuple(a_room(rand, wide, high, day) for k in range(rand.choice((0, 0, 0, 0, 1))))
+    home = (0, 0, rand.randrange(2), high - 1, rand.randint(1, 4))
+    return Land(wide, high, day=day, barred=barred, pads=(home, (wide - 1, 0, wide - 1, high - 1, rand.randint(1, 2))))
+
+
+def fair_winds(rand, land):
+    """Winds that leave many flights of a fair land let by: none of them lead out from where a flyer rests."""
+    along = ((0, 1, 0, 0), (-1, 0, 0, 0), (-1, 1, 0, 0), (1, 1, 0, 0), (-1, -1, 0, 0))
+    rows = []
+    for k in range(rand.randrange(1, 4)):
+        x1, y1, x2, y2, first, last = a_room(rand, land.wide, land.high, land.day)
+        if rand.random() < 0.7:
+            rows.append(((1, y1, land.wide - 2, y2, min(first, 1), last), rand.choice(along)))
+        else:
+            rows.append(((x1, 0, x2, land.high - 2, first, last), (0, 0, 0, 1)))
+    return tuple(rows)
+
+
+def a_fair_flight(rand, land):
+    """A flight of a fair land that is let by rather often."""
+    task = a_task(rand, land.wide, land.high, land.day)
+    full = rand.randint(8, 30)
+    state = (rand.randrange(land.wide), rand.randrange(land.high), rand.randint(0, last_step(task)), rand.randint(6, full))
+    rows = (("go", 0, 0), ("go", 1, 0), ("go", -1, 0), ("aim", 2, 1), ("aim", 3, 0), ("home",))
+    way = tuple(rand.choice(rows) for k in range(rand.randrange(1, land.day + 1)))
+    if rand.random() < 0.3:
+        way = (("stand",),) * rand.randrange(1, 3) + way[:-1]
+    return (rand.choice((1, 2, 2)), 9, full, rand.randint(1, 9)), state, way, task, rand.randrange(2)
+
+
+def runs_again(land, winds, flight, since, turn=None):
+    """All (run, states, word) of a flight with the turn, one by one, told a second time."""
+    word = hurt_again(land, flight[1][0], flight[1][1], since, flight[0][1])
+    yield from runs_on(land, winds, flight, since, turn, (), (flight[1],), word)
+
+
+def runs_on(land, winds, flight, since, turn, run, states, word):
+    beat = since + len(run)
+    x, y, step, charge = states[-1]
+    if word is not None or beat == land.day:
+        home = (x, y) in squares_of(land.pads[flight[4]])
+        yield run, states, word if word is not None or home else "late"
+        return
+    yield run, states, None
+    turned = turn is not None and beat >= turn
+    row = ("home",) if turned or len(run) >= len(flight[2]) else flight[2][len(run)]
+    for wind in winds_again(winds, x, y, beat):
+        come, broken = beat_again(land, flight, row, beat, states[-1], wind)
+        behind = states if come is None else states + (come,)
+        yield from runs_on(land, winds, flight, since, turn, run + (wind,), behind, broken)
+
+
+def is_let_again(land, winds, flight, since):
+    """Whether no run breaks, or is late, whatever its turn, all gone through one by one."""
+    turns = range(since, land.day + 1)
+    return all(told[2] is None for turn in turns for told in runs_again(land, winds, flight, since, turn))
+
+
+def near_again(land, pair, apart):
+    """Whether two squares are near, told a second time."""
+    one, other = pair
+    pads = {square for pad in land.pads for square in squares_of(pad)}
+    around = {(one[0] + dx, one[1] + dy) for dx in range(1 - apart, apart) for dy in range(1 - apart, apart)}
+    return other in around and not {one, other} & pads
+
+
+def midway_again(land, ahead, behind, apart):
+    """Whether two flyers are near midway, told a second time, on a land twice as fine."""
+    pads = {square for pad in land.pads for square in squares_of(pad)}
+    if pads & {*ahead, *behind}:
+        return False
+    (x, y), (u, v) = [(now[0] + then[0], now[1] + then[1]) for now, then in zip(ahead, behind)]
+    return x - u in range(1 - 2 * apart, 2 * apart) and y - v in range(1 - 2 * apart, 2 * apart)
+
+
+def do_come_near_again(land, apart, told, other):
+    """Whether two unbroken runs, each (run, states), as long as one another, come near at their end."""
+    pairs = [(state[:2], met[:2]) for state, met in zip(told[1], other[1])]
+    for (one, two), wind, blown in zip(pairs, told[0], other[0]):
+        if one == two and wind != blown:
+            return False
+    if near_again(land, pairs[-1], apart):
+        return True
+    return len(pairs) > 1 and midway_again(land, pairs[-2], pairs[-1], apart)
+
+
+def unbroken_again(land, winds, flight, since):
+    """All (run, states) without a turn that don't break, by their lengths."""
+    told = {length: [] for length in range(land.day - since + 1)}
+    for run, states, word in runs_again(land, winds, flight, since):
+        if word in (None, "late"):
+            told[len(run)].append((run, states))
+    return told
+
+
+def all_nears_again(land, winds, one, other, since, apart):
+    """All (run, other run) by which two flights come near, all pairs of runs gone through one by one."""
+    told, beyond = unbroken_again(land, winds, one, since), unbroken_again(land, winds, other, since)
+    return [
+        (run[0], met[0]) for length in told for run in told[length] for met in beyond[length]
+        if do_come_near_again(land, apart, run, met)
+    ]
+
+
+def a_task_on_the_way(rand, land, winds, flight, since):
+    """A task of a place to which some run of the flight comes, and perhaps not each."""
+    run, states, word = rand.choice([told for told in runs_again(land, winds, flight, since) if told[2] is None])
+    at, behind = sorted((rand.randrange(len(states)), rand.randrange(len(states))))
+    box = states[at][:2] * 2
+    first, last = max(since + at - rand.randrange(2), 0), min(since + behind + rand.randrange(2), land.day)
+    return rand.choice((
+        ("look", box, first, last), ("bring", box, states[behind][:2] * 2, rand.randrange(3), first, last),
+        ("over", box, rand.randint(1, 2), first, last),
+    ))
+
+
+def a_tasked_case(rand, judge):
+    """A fair land, winds, a flight with a task, let by as judge tells, and since; None where chance brings none."""
+    land = a_fair_land(rand, rand.randint(2, 5))
+    winds = fair_winds(rand, land)
+    since = rand.choice((0, 0, 0, 0, 1, land.day))
+    flyer, state, way, task, home = a_fair_flight(rand, land)
+    made = (flyer, (*state[:2], 0, state[3]), way, None, home)
+    if judge(land, winds, made, since)[0] != "let":
+        return None
+    task = a_task_on_the_way(rand, land, winds, made, since)
+    made = (flyer, (*state[:2], 0 if rand.random() < 0.8 else 1, state[3]), way, task, home)
+    if judge(land, winds, made, since)[0] != "let":
+        return None
+    return land, winds, made, since

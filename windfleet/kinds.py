@@ -29,3 +29,8 @@ def is_tuple_of(thing, many):
 def is_tuple_to(thing, most):
     """Whether it is a tuple of no more parts than most."""
     return isinstance(thing, tuple) and len(thing) <= most
+
+
+def are_rising(things):
+    """Whether each of the things, all of kinds that compare, is above the one ahead."""
+    return all([ahead < behind for ahead, behind in zip(things, things[1:])])

@@ -20,9 +20,13 @@ def led(land, winds, flight, since, beat, x, y, step):
     if not since <= beat <= land.day:
         return None
     layers = layers_to(land, winds, flight, since, beat)
-    place = (x, y, step)
-    if place not in layers[-1]:
+    if (x, y, step) not in layers[-1]:
         return None
+    return run_to(layers, (x, y, step))
+
+
+def run_to(layers, place):
+    """The run that leads to the place of the last layer with the charge that is kept there."""
     run = []
     for layer in reversed(layers[1:]):
         least, place, wind = layer[place]

@@ -1,6 +1,6 @@
 """Winds as they are told, by boxes, and weathers, which tell them one by one."""
 
-from windfleet.kinds import are_wholes_from, is_tuple_of, is_tuple_to, is_whole, is_whole_from
+from windfleet.kinds import are_rising, are_wholes_from, is_tuple_of, is_tuple_to, is_whole, is_whole_from
 from windfleet.lands import is_room, is_square, room_has
 
 MOST_ROWS = 8
@@ -45,8 +45,7 @@ def is_weather(land, winds, thing):
     """Whether it is a weather of these winds of the land."""
     if not isinstance(thing, tuple) or not all([is_weather_row(land, winds, row) for row in thing]):
         return False
-    places = [place for place, wind in thing]
-    return all([ahead < behind for ahead, behind in zip(places, places[1:])])
+    return are_rising([place for place, wind in thing])
 
 
 def is_weather_row(land, winds, thing):
