@@ -1,6 +1,7 @@
 """What the tests share: things spoiled, of other kinds, or held against a second telling."""
 
 import copy
+import itertools
 
 from windfleet.lands import Land
 from windfleet.tasks import last_step
@@ -348,3 +349,85 @@ def a_tasked_case(rand, judge):
     if judge(land, winds, made, since)[0] != "let":
         return None
     return land, winds, made, since
+
+
+def does_stand_again(land, flight, since, pad, run, states, word):
+    """Whether a run leads to a stand on the pad at a beat below day, told a second time."""
+    at = len(run)
+    stands = since + at < land.day and at < len(flight[2]) and flight[2][at] == ("stand",)
+    return word is None and stands and states[-1][:2] in squares_of(land.pads[pad])
+
+
+def users_again(land, winds, fleet, since):
+    """For each pad the numbers of the flights that use it, all runs gone through one by one."""
+    users = []
+    for number, pad in enumerate(land.pads):
+        users.append([
+            k for k, flight in enumerate(fleet) if flight[4] == number or any(
+                does_stand_again(land, flight, since, number, *told) for told in runs_again(land, winds, flight, since))
+        ])
+    return users
+
+
+def fault_again(land, winds, fleet, since, apart):
+    """The first fault of a fleet, by its word and numbers, told by all runs gone through one by one; or None."""
+    for k, flight in enumerate(fleet):
+        if not is_let_again(land, winds, flight, since):
+            return "flight", k
+    for j, one in enumerate(fleet):
+        for k, other in enumerate(fleet):
+            if j < k and all_nears_again(land, winds, one, other, since, apart):
+                return "pair", j, k
+    for number, users in enumerate(users_again(land, winds, fleet, since)):
+        if len(users) > land.pads[number][4]:
+            return "pad", number
+    return None
+
+
+def a_fair_fleet(rand, judge, most=4):
+    """A fair land, winds, one to four flights, most of them let by, and since."""
+    land = a_fair_land(rand, rand.randint(2, 4))
+    winds = fair_winds(rand, land)
+    since = rand.choice((0, 0, 0, 0, 1, land.day))
+    fleet = [a_fair_flight(rand, land) for k in range(10)]
+    if rand.random() < 0.9:
+        fleet = [made for made in fleet if judge(land, winds, made, since)[0] == "let"] or fleet
+    return land, winds, tuple(fleet[:rand.randint(1, most)]), since
+
+
+def hearings(news):
+    """All tuples of which words are heard, False where there is none."""
+    return list(itertools.product(*[(False,) if way is None else (False, True) for way in news]))
+
+
+def heard_again(fleet, news, heard):
+    """The fleet where just those words are heard."""
+    return tuple((*made[:2], way, *made[3:]) if hears else made for made, way, hears in zip(fleet, news, heard))
+
+
+def fair_news(rand, fleet, land):
+    """News of a fleet: ways of other flights of the land, or no word."""
+    return tuple(rand.choice((None, a_fair_flight(rand, land)[2], (), made[2][1:], made[2])) for made in fleet)
+
+
+def bent(rand, paper, more):
+    """The paper with one of its layers, by chance, less a part, with one part more, or as it was."""
+    at = rand.randrange(len(paper))
+    layer = paper[at]
+    sort = rand.randrange(3)
+    if sort == 0 and layer:
+        gone = rand.randrange(len(layer))
+        return replaced(paper, (at,), layer[:gone] + layer[gone + 1:])
+    if sort == 1:
+        return replaced(paper, (at,), tuple(sorted(layer + (more,))))
+    return paper
+
+
+def the_greatest_fleet():
+    """A land, winds, and a fleet of four, let by, as great as is promised of fleets."""
+    land = Land(6, 6, day=12, pads=((0, 0, 5, 0, 2), (0, 5, 5, 5, 2)))
+    winds = (((0, 0, 1, 5, 0, 12), (0, 2, 0, 0)), ((4, 0, 5, 5, 0, 12), (-2, 0, 0, 0)), ((2, 0, 3, 5, 0, 12), (-1, 1, 0, 0)))
+    low = ((2, 9, 99, 9), (2, 0, 0, 99), (("go", 0, 1),) + (("go", 0, 0),) * 6, None, 0)
+    high = ((2, 9, 99, 9), (2, 5, 0, 99), (("go", 0, -1),) + (("go", 0, 0),) * 6, None, 1)
+    resting = tuple((made[0], made[1], (("stand",),) * 12, None, made[4]) for made in (low, high))
+    return land, winds, (low, high) + resting

@@ -320,7 +320,7 @@ class LetHolds(unittest.TestCase):
             word, *paper = judged(land, winds, made, since)
             if word != "let":
                 continue
-            for bent in range(6):
+            for again in range(6):
                 thing = bend(rand, paper[0])
                 wanted = paper_again(land, winds, made, since, thing)
                 self.assertIs(wanted, let_holds(land, winds, made, since, thing), (number, thing))

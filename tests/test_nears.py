@@ -2,7 +2,7 @@ import random
 import unittest
 
 from tests.helping import (
-    ANYTHING, a_case, a_fair_flight, a_fair_land, beat_again, deep, do_come_near_again, fair_winds, midway_again,
+    ANYTHING, a_case, a_fair_flight, a_fair_land, beat_again, bent, deep, do_come_near_again, fair_winds, midway_again,
     near_again, replaced, runs_again, spoiled, unchanged, winds_again,
 )
 from windfleet.judging import judged
@@ -208,26 +208,13 @@ class ApartHolds(unittest.TestCase):
             for one, other in zip(flights, flights[1:]):
                 word, *paper = paired(land, winds, one, other, since, apart=apart)
                 if word == "apart":
-                    for bent in range(5):
-                        thing, by = bend(rand, paper[0]), rand.choice((apart, apart, 1, 2, 3))
+                    for again in range(5):
+                        more = tuple(rand.randrange(4) for k in range(4))
+                        thing, by = bent(rand, paper[0], more), rand.choice((apart, apart, 1, 2, 3))
                         wanted = paper_again(land, winds, one, other, since, thing, by)
                         self.assertIs(wanted, apart_holds(land, winds, one, other, since, thing, apart=by), (number, thing))
                         told[wanted] += 1
         self.assertGreater(min(told.values()), 200)
-
-
-def bend(rand, paper):
-    """The paper with one of its layers bent by chance."""
-    at = rand.randrange(len(paper))
-    layer = paper[at]
-    sort = rand.randrange(3)
-    if sort == 0:
-        gone = rand.randrange(len(layer))
-        return replaced(paper, (at,), layer[:gone] + layer[gone + 1:])
-    if sort == 1:
-        more = tuple(rand.randrange(4) for k in range(4))
-        return replaced(paper, (at,), tuple(sorted(layer + (more,))))
-    return paper
 
 
 class NearHolds(unittest.TestCase):

@@ -1,7 +1,7 @@
 import random
 import unittest
 
-from tests.helping import a_fair_flight, a_fair_land, all_nears_again, fair_winds, told_so, unchanged
+from tests.helping import a_fair_flight, a_fair_land, all_nears_again, fair_winds, the_greatest_fleet, told_so, unchanged
 from windfleet.bounds import APART
 from windfleet.judging import judged
 from windfleet.lands import Land
@@ -195,10 +195,7 @@ class OneByOne(Asking):
         self.assertGreater(min(told.values()), 20)
 
     def test_the_greatest_of_what_is_promised(self):
-        land = Land(6, 6, day=12, pads=((0, 0, 5, 0, 4), (0, 5, 5, 5, 4)))
-        winds = (((0, 0, 1, 5, 0, 12), (0, 2, 0, 0)), ((4, 0, 5, 5, 0, 12), (-2, 0, 0, 0)), ((2, 0, 3, 5, 0, 12), (-1, 1, 0, 0)))
-        one = ((2, 9, 99, 9), (2, 0, 0, 99), (("go", 0, 1),) + (("go", 0, 0),) * 6, None, 0)
-        other = ((2, 9, 99, 9), (2, 5, 0, 99), (("go", 0, -1),) + (("go", 0, 0),) * 6, None, 1)
+        land, winds, (one, other, *rest) = the_greatest_fleet()
         self.let(winds, one, other, land=land)
         for apart in (1, 2, 3):
             paper = self.apart(winds, one, other, apart, land=land)

@@ -40,11 +40,16 @@ def is_layer(land, flight, thing):
 
 
 def is_charged_place(land, flight, thing):
-    """Whether it is a square of the land, a step of the flight's task, and a charge, however great."""
-    if not is_tuple_of(thing, 4) or not all([is_whole(part) for part in thing]):
+    """Whether it is a place of the flight, and a charge, however great."""
+    return is_tuple_of(thing, 4) and is_place(land, flight, thing[:3]) and is_whole(thing[3]) and thing[3] >= 0
+
+
+def is_place(land, flight, thing):
+    """Whether it is a square of the land and a step of the flight's task."""
+    if not is_tuple_of(thing, 3) or not all([is_whole(part) for part in thing]):
         return False
-    x, y, step, charge = thing
-    return is_square(land, x, y) and 0 <= step <= last_step(flight[3]) and charge >= 0
+    x, y, step = thing
+    return is_square(land, x, y) and 0 <= step <= last_step(flight[3])
 
 
 def charges_of(layer):
