@@ -45,13 +45,14 @@ def spoiled_at(part, free, path):
     yield from other_kinds(part)
     if not isinstance(part, tuple):
         return
-    if path not in free:
+    if path not in free and part:
         yield part[:-1]
         yield part[1:]
         yield part + (part[-1],)
+        yield ()
+    if path not in free:
         yield part + (0,)
         yield part + (None,)
-        yield ()
     for at, inner in enumerate(part):
         for wrong in spoiled_at(inner, free, path + (at,)):
             yield part[:at] + (wrong,) + part[at + 1:]
@@ -431,3 +432,97 @@ def the_greatest_fleet():
     high = ((2, 9, 99, 9), (2, 5, 0, 99), (("go", 0, -1),) + (("go", 0, 0),) * 6, None, 1)
     resting = tuple((made[0], made[1], (("stand",),) * 12, None, made[4]) for made in (low, high))
     return land, winds, (low, high) + resting
+
+
+def is_sure_again(land, winds, flight, since):
+    """Whether each run to day that doesn't break ends at the task's last step, all gone through one by one."""
+    return not missing_again(land, winds, flight, since)
+
+
+def missing_again(land, winds, flight, since):
+    """All runs to day, without a turn, that don't break and don't end at the task's last step."""
+    whole = unbroken_again(land, winds, flight, since)[land.day - since]
+    return [run for run, states in whole if states[-1][2] != last_step(flight[3])]
+
+
+def goods_again(land, winds, menus, since, apart, surely):
+    """All good choices of menus, rising, all runs gone through one by one."""
+    lets, nears, uses = {}, {}, {}
+    for k, menu in enumerate(menus):
+        for n, made in enumerate(menu):
+            lets[k, n] = is_let_again(land, winds, made, since)
+            if surely and lets[k, n] and made[3] is not None:
+                lets[k, n] = is_sure_again(land, winds, made, since)
+            uses[k, n] = [pad for pad, users in enumerate(users_again(land, winds, (made,), since)) if users]
+    for (j, m), (k, n) in itertools.combinations(lets, 2):
+        if j != k and lets[j, m] and lets[k, n]:
+            nears[j, m, k, n] = bool(all_nears_again(land, winds, menus[j][m], menus[k][n], since, apart))
+    goods = []
+    for choice in itertools.product(*[range(len(menu)) for menu in menus]):
+        places = list(enumerate(choice))
+        if not all(lets[place] for place in places):
+            continue
+        if any(nears[one + other] for one, other in itertools.combinations(places, 2)):
+            continue
+        used = [pad for place in places for pad in uses[place]]
+        if all(used.count(number) <= pad[4] for number, pad in enumerate(land.pads)):
+            goods.append(choice)
+    return goods
+
+
+def fair_menus(rand, judge):
+    """A fair land, winds, menus of one to four flyers with one to three flights each, and since."""
+    land = a_fair_land(rand, rand.randint(2, 4))
+    winds = fair_winds(rand, land)
+    since = rand.choice((0, 0, 0, 0, 1, land.day))
+    made = [a_fair_flight(rand, land) for k in range(12)]
+    good = [flight for flight in made if judge(land, winds, flight, since)[0] == "let"]
+    if good and rand.random() < 0.9:
+        made = good + made[:rand.randrange(3)]
+    for at, flight in enumerate(made):
+        if flight in good and rand.random() < 0.4:
+            free = (*flight[:1], (*flight[1][:2], 0, flight[1][3]), flight[2], None, flight[4])
+            made[at] = free
+            if judge(land, winds, free, since)[0] == "let" and rand.random() < 0.8:
+                made[at] = (*free[:3], a_task_on_the_way(rand, land, winds, free, since), free[4])
+    menus = [tuple(rand.choice(made) for n in range(rand.randint(1, 3))) for k in range(rand.randint(1, 4))]
+    return land, winds, tuple(menus), since
+
+
+def all_choices(menus):
+    """All choices of the menus, rising."""
+    return tuple(itertools.product(*[range(len(menu)) for menu in menus]))
+
+
+def is_bar_again(land, winds, menus, since, bar, apart, surely):
+    """Whether a bar of the right shape, its places those of the menus, is so, all runs gone through one by one."""
+    sort, *parts = bar
+    if sort == "flight":
+        k, n, turn, run = parts
+        return run in [told[0] for told in runs_again(land, winds, menus[k][n], since, turn) if told[2] is not None]
+    if sort == "task":
+        k, n, run = parts
+        made = menus[k][n]
+        return surely and made[3] is not None and run in missing_again(land, winds, made, since)
+    if sort == "pair":
+        j, m, k, n, run, other = parts
+        return j < k and (run, other) in all_nears_again(land, winds, menus[j][m], menus[k][n], since, apart)
+    number, rows = parts
+    users = [k for k, n, run in rows]
+    if users != sorted(set(users)) or len(users) <= land.pads[number][4]:
+        return False
+    for k, n, run in rows:
+        made = menus[k][n]
+        stands = [told[0] for told in runs_again(land, winds, made, since) if does_stand_again(land, made, since, number, *told)]
+        if run not in ([()] if made[4] == number else stands):
+            return False
+    return True
+
+
+def does_bar_again(bar, choice):
+    """Whether a bar names places of the choice alone."""
+    sort, *parts = bar
+    named = [row[:2] for row in parts[1]] if sort == "pad" else [tuple(parts[:2])]
+    if sort == "pair":
+        named.append(tuple(parts[2:4]))
+    return set(named) <= set(enumerate(choice))

@@ -77,10 +77,14 @@ def is_user(land, winds, fleet, since, number, thing):
     """Whether it is (k, run), the run showing that flight k uses the pad."""
     if not is_tuple_of(thing, 2) or not is_number(fleet, thing[0]):
         return False
-    flight = fleet[thing[0]]
+    return does_use(land, winds, fleet[thing[0]], since, number, thing[1])
+
+
+def does_use(land, winds, flight, since, number, thing):
+    """Whether it is a run that shows that the flight uses the pad: () where it is its home."""
     if flight[4] == number:
-        return thing[1] == ()
-    return does_stand(land, winds, flight, since, number, thing[1])
+        return thing == ()
+    return does_stand(land, winds, flight, since, number, thing)
 
 
 def does_stand(land, winds, flight, since, number, thing):
