@@ -526,3 +526,81 @@ def does_bar_again(bar, choice):
     if sort == "pair":
         named.append(tuple(parts[2:4]))
     return set(named) <= set(enumerate(choice))
+
+
+def show_land_again(land):
+    """A land's text, told a second time."""
+    lines = [f"land {land.wide} {land.high} {land.day}"]
+    for row in land.heights or ():
+        lines.append("row " + "".join(map(str, row)))
+    for sort, rows in (("barred", land.barred), ("people", land.people), ("pad", land.pads)):
+        lines += [" ".join([sort, *map(str, row)]) for row in rows]
+    return "\n".join(lines)
+
+
+def show_winds_again(winds):
+    """Winds' text, told a second time."""
+    return "\n".join("wind " + " ".join(map(str, room + let)) for room, let in winds)
+
+
+def show_flight_again(flight):
+    """A flight's text, told a second time."""
+    flyer, state, way, task, home = flight
+    told = "none"
+    if task is not None:
+        told = " ".join(str(part) if not isinstance(part, tuple) else "{} {} {} {}".format(*part) for part in task)
+    lines = ["flyer {} {} {} {}".format(*flyer), "at {} {} {} {}".format(*state), f"task {told}", f"to {home}"]
+    return "\n".join(lines + [" ".join(map(str, row)) for row in way])
+
+
+def refused_at_again(text, is_text, endings):
+    """The line at which a text is refused, or None: by whether lines, with one of the endings, are a text."""
+    lines = text.split("\n")
+    for at in range(len(lines)):
+        if not any(is_text("\n".join(lines[:at + 1] + ending)) for ending in endings(lines[:at + 1])):
+            return at
+    return None if is_text(text) else len(lines)
+
+
+def garbled(rand, text):
+    """The text with a sign or a line, by chance, gone, twice, or another one; or as it is."""
+    lines = text.split("\n")
+    at = rand.randrange(len(lines))
+    sort = rand.randrange(9)
+    words = lines[at].split(" ")
+    if sort == 0:
+        del lines[at]
+    elif sort == 1:
+        lines.insert(at, rand.choice(lines))
+    elif sort == 2:
+        lines[at:at + 2] = lines[at:at + 2][::-1]
+    elif sort == 3:
+        words[rand.randrange(len(words))] = rand.choice(("0", "1", "-1", "5", "12", "13", "24", "00", "-0", "+1", "", "x", ","))
+        lines[at] = " ".join(words)
+    elif sort == 4:
+        del words[rand.randrange(len(words))]
+        lines[at] = " ".join(words)
+    elif sort == 5:
+        words.insert(rand.randrange(len(words) + 1), rand.choice(("0", "1", "")))
+        lines[at] = " ".join(words)
+    elif sort == 6:
+        sign = rand.randrange(len(lines[at]) + 1)
+        lines[at] = lines[at][:sign] + rand.choice(" 019-aZ;\t~") + lines[at][sign + rand.randrange(2):]
+    elif sort == 7:
+        return "\n".join(lines[:at])
+    return "\n".join(lines)
+
+
+def no_text_at(test, read, *handed):
+    """The line at which something is refused, twice the same, nothing handed in changed."""
+    from windfleet.errors import NoText
+    before = copy.deepcopy(handed)
+    told = []
+    for again in range(2):
+        with test.assertRaises(NoText, msg=handed) as caught:
+            read(*handed)
+        test.assertIs(NoText, type(caught.exception))
+        told.append(repr(caught.exception.at))
+    test.assertEqual(told[0], told[1])
+    test.assertEqual(repr(kept(before)), repr(kept(handed)))
+    return caught.exception.at
