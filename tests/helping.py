@@ -3,6 +3,7 @@
 import copy
 import itertools
 
+from windfleet.errors import NoText
 from windfleet.lands import Land
 from windfleet.tasks import last_step
 
@@ -593,7 +594,6 @@ def garbled(rand, text):
 
 def no_text_at(test, read, *handed):
     """The line at which something is refused, twice the same, nothing handed in changed."""
-    from windfleet.errors import NoText
     before = copy.deepcopy(handed)
     told = []
     for again in range(2):

@@ -11,6 +11,7 @@ from windfleet.fleets import fleet_told
 from windfleet.grounds import Ground
 from windfleet.lands import Land
 from windfleet.newschecks import lost_holds
+from windfleet.winds import winds_at
 
 STAND = ("stand",)
 FLYER = (2, 9, 50, 3)
@@ -750,7 +751,6 @@ class OverManyDeeds(unittest.TestCase):
     def a_weather(self, rand, land, ground):
         if rand.random() < 0.1:
             return rand.choice((None, (((0, 0, 99), (0, 0)),), (((0, 0, 0), (2, 2)),)))
-        from windfleet.winds import winds_at
         rows = []
         for x, y in sorted({made[1][:2] for made in ground.fleet()}):
             if ground.beat() < land.day:

@@ -1,5 +1,4 @@
 import copy
-import unittest
 
 from tests.helping import ANYTHING, deep, told_so
 from tests.test_grounds import EAST, FLYER, LAND, STAND, Asking, a_flight, a_ground, at_day, shown

@@ -60,10 +60,9 @@ def has_place(menus, k, n):
 
 
 def does_miss(land, winds, flight, since, thing):
-    """Whether it is a run to day that doesn't break, and doesn't do the flight's task, if it has one."""
-    if flight[3] is None:
-        return False
+    """Whether it is a run to day that doesn't break, and doesn't do the flight's task."""
     step = end_step(land, winds, flight, since, thing)
+    # Without a task the one step there is is the last one, so no run misses it.
     return step is not None and step != last_step(flight[3])
 
 
